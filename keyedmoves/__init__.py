@@ -1,0 +1,1 @@
+"""The cheapest updates of a tree of keyed elements."""

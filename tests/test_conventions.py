@@ -1,0 +1,118 @@
+"""Points [1], [2] and [4]: what holds for every function of the package."""
+
+import copy
+import importlib
+import unittest
+
+from helpers import any_values
+from keyedmoves.errors import KeyedError
+
+TREE = ("root", (("a", (("b", ()),)), ("c", ())))
+OTHER = ("root", (("b", ()), ("d", (("c", ()),))))
+STEPS = (("move", "b", "root", "c"), ("create", "d", "root", None), ("move", "c", "d", None), ("remove", "a"))
+
+# Each function with its arguments, in the order and by the names of the document.
+CALLS = (
+    ("trees", "is_key", {"value": "a"}),
+    ("trees", "is_tree", {"value": TREE}),
+    ("trees", "keys_of", {"tree": TREE}),
+    ("trees", "parent_of", {"tree": TREE, "key": "b"}),
+    ("trees", "children_of", {"tree": TREE, "key": "a"}),
+    ("trees", "subtree", {"tree": TREE, "key": "a"}),
+    ("trees", "path_of", {"tree": TREE, "key": "b"}),
+    ("trees", "is_inside", {"tree": TREE, "key": "b", "other": "a"}),
+    ("operations", "are_operations", {"value": STEPS}),
+    ("operations", "run", {"tree": TREE, "operations": STEPS}),
+    ("operations", "moments", {"tree": TREE, "operations": STEPS}),
+    ("operations", "moved", {"operations": STEPS}),
+    ("operations", "cost_of", {"operations": STEPS, "costs": (("b", 5),)}),
+    ("operations", "are_costs", {"value": (("b", 5),)}),
+    ("patches", "fault", {"old": TREE, "new": OTHER, "operations": STEPS[:3]}),
+    ("patches", "is_patch", {"old": TREE, "new": OTHER, "value": STEPS}),
+    ("patches", "kept", {"old": TREE, "new": OTHER}),
+    ("patches", "created", {"old": TREE, "new": OTHER}),
+    ("patches", "removed", {"old": TREE, "new": OTHER}),
+    ("patches", "staying", {"old": TREE, "new": OTHER, "operations": STEPS}),
+)
+
+EXPECTED = {
+    "is_key": True, "is_tree": True, "keys_of": ("root", "a", "b", "c"), "parent_of": "a", "children_of": ("b",),
+    "subtree": ("a", (("b", ()),)), "path_of": ("root", "a", "b"), "is_inside": True, "are_operations": True,
+    "run": OTHER, "moved": ("b", "c"), "cost_of": 6, "are_costs": True, "fault": 3, "is_patch": True,
+    "kept": ("b", "c"), "created": ("d",), "removed": ("a",), "staying": (),
+    "moments": (TREE, ("root", (("a", ()), ("b", ()), ("c", ()))),
+                ("root", (("a", ()), ("b", ()), ("c", ()), ("d", ()))),
+                ("root", (("a", ()), ("b", ()), ("d", (("c", ()),)))), OTHER),
+}
+
+# The parameters that may be any value.
+ANY_VALUE = (
+    ("is_key", "value"), ("is_tree", "value"), ("parent_of", "key"), ("children_of", "key"), ("subtree", "key"),
+    ("path_of", "key"), ("is_inside", "key"), ("is_inside", "other"), ("are_operations", "value"),
+    ("run", "operations"), ("moments", "operations"), ("are_costs", "value"), ("is_patch", "value"),
+)
+
+
+def function_of(module, name):
+    return getattr(importlib.import_module("keyedmoves." + module), name)
+
+
+def outcome(function, arguments):
+    """Return what a call returns, or the name and the attributes of the error that it raises."""
+    try:
+        return function(**arguments)
+    except KeyedError as error:
+        return error.__class__.__name__, vars(error)
+
+
+class Conventions(unittest.TestCase):
+    def test_by_position_and_by_name(self):
+        for module, name, arguments in CALLS:
+            function = function_of(module, name)
+            self.assertEqual(function(*arguments.values()), EXPECTED[name], name)
+            self.assertEqual(function(**arguments), EXPECTED[name], name)
+            backwards = dict(reversed(list(arguments.items())))
+            self.assertEqual(function(**backwards), EXPECTED[name], name)
+
+    def test_plain_kinds_of_values(self):
+        for module, name, arguments in CALLS:
+            self.check_kinds(function_of(module, name)(**arguments), name)
+
+    def check_kinds(self, value, name):
+        self.assertIn(value.__class__, (bool, int, str, tuple, None.__class__), name)
+        self.assertIs(value.__class__, EXPECTED[name].__class__ if name in EXPECTED else value.__class__)
+        if isinstance(value, tuple):
+            for item in value:
+                self.check_kinds(item, None)
+
+    def test_equal_calls_return_equal_results(self):
+        for module, name, arguments in CALLS * 2:
+            self.assertEqual(function_of(module, name)(**arguments), EXPECTED[name], name)
+
+    def test_any_value_is_answered_and_not_modified(self):
+        calls = {name: (function_of(module, name), arguments) for module, name, arguments in CALLS}
+        for name, parameter in ANY_VALUE:
+            function, arguments = calls[name]
+            for value in any_values():
+                before = copy.deepcopy(value)
+                first = outcome(function, {**arguments, parameter: value})
+                second = outcome(function, {**arguments, parameter: value})
+                self.assertEqual(value, before, name)
+                self.assertEqual(first, second, name)
+
+    def test_values_are_not_taken_for_equal_ones_of_another_kind(self):
+        calls = {name: (function_of(module, name), arguments) for module, name, arguments in CALLS}
+        for name, parameter in ANY_VALUE:
+            function, arguments = calls[name]
+            right = arguments[parameter]
+            wrong = list(right) if isinstance(right, tuple) else [right]
+            answer = outcome(function, {**arguments, parameter: wrong})
+            self.assertIn(answer if answer is False else answer[0], (False, "NoElement", "BadOperations"), name)
+
+    def test_defined_in_the_module_of_the_interface(self):
+        for module, name, _ in CALLS:
+            self.assertEqual(function_of(module, name).__module__, "keyedmoves." + module)
+
+
+if __name__ == "__main__":
+    unittest.main()
