@@ -144,4 +144,9 @@ def is_costs_pair(value):
 
 def is_cost(value):
     """Return whether any value is an integer that can be a cost."""
-    return isinstance(value, int) and not isinstance(value, bool) and 1 <= value <= MOST_COST
+    return is_whole_number(value) and 1 <= value <= MOST_COST
+
+
+def is_whole_number(value):
+    """Return whether any value is an integer; a bool is none."""
+    return isinstance(value, int) and not isinstance(value, bool)

@@ -166,3 +166,45 @@ def grown_trees(tree, key):
         for grown in grown_trees(child, key):
             found.append((name, children[:at] + (grown,) + children[at + 1:]))
     return found
+
+
+# Values that are almost right.
+
+def with_one_list(value):
+    """Yield the value once for each tuple in it, with a list in its place."""
+    if isinstance(value, tuple):
+        yield list(value)
+        for at, item in enumerate(value):
+            for changed in with_one_list(item):
+                yield value[:at] + (changed,) + value[at + 1:]
+
+
+def with_one_bool(value):
+    """Yield the value once for each 0 and each 1 in it, with the bool that equals it in its place."""
+    if value.__class__ is int and value in (0, 1):
+        yield bool(value)
+    if isinstance(value, tuple):
+        for at, item in enumerate(value):
+            for changed in with_one_bool(item):
+                yield value[:at] + (changed,) + value[at + 1:]
+
+
+def with_one_other(value, others):
+    """Yield the value once for each part of it and each of the others, with the other one in its place."""
+    yield from others
+    if isinstance(value, tuple):
+        for at, item in enumerate(value):
+            for changed in with_one_other(item, others):
+                yield value[:at] + (changed,) + value[at + 1:]
+
+
+def in_blocks(many, size):
+    """Return keys in ascending order, and the same with each block of this size backwards."""
+    keys = tuple(key_at(number) for number in range(many))
+    turned = [keys[start:start + size][::-1] for start in range(0, many, size)]
+    return keys, tuple(key for block in turned for key in block)
+
+
+def flat(root, keys):
+    """Return a tree whose root has these children, none of which has children."""
+    return root, tuple((key, ()) for key in keys)

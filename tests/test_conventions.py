@@ -2,6 +2,7 @@
 
 import copy
 import importlib
+import inspect
 import unittest
 
 from helpers import any_values
@@ -10,6 +11,13 @@ from keyedmoves.errors import KeyedError
 TREE = ("root", (("a", (("b", ()),)), ("c", ())))
 OTHER = ("root", (("b", ()), ("d", (("c", ()),))))
 STEPS = (("move", "b", "root", "c"), ("create", "d", "root", None), ("move", "c", "d", None), ("remove", "a"))
+
+SEQUENCES = {"first": ("a", "b", "c"), "second": ("b", "a", "c"), "costs": (("b", 5),)}
+TREES = {"old": TREE, "new": OTHER}
+TURNED = {"old": ("r", (("a", ()), ("b", ()), ("c", ()))), "new": ("r", (("b", ()), ("a", ()), ("c", ())))}
+PRICED = {**TURNED, "costs": (("b", 5),)}
+FOCUSED = {"focused": ("a",)}
+PROOF = ((("move", "b", "r", "a"),), (("r", ((1, ("c",)),)),))
 
 # Each function with its arguments, in the order and by the names of the document.
 CALLS = (
@@ -33,6 +41,28 @@ CALLS = (
     ("patches", "created", {"old": TREE, "new": OTHER}),
     ("patches", "removed", {"old": TREE, "new": OTHER}),
     ("patches", "staying", {"old": TREE, "new": OTHER, "operations": STEPS}),
+    ("runs", "heaviest_run", SEQUENCES),
+    ("runs", "cover_of", SEQUENCES),
+    ("runs", "shows_heaviest", {**SEQUENCES, "run": ("b", "c"), "value": ((5, ("a", "b")), (1, ("c",)))}),
+    ("runs", "run_count", SEQUENCES),
+    ("runs", "run_at", {**SEQUENCES, "number": 0}),
+    ("runs", "some_run", SEQUENCES),
+    ("runs", "every_run", SEQUENCES),
+    ("staying", "steady", TURNED),
+    ("staying", "steady_children", {**TURNED, "parent": "r"}),
+    ("staying", "cross", {**TURNED, "one": "a", "other": "b"}),
+    ("staying", "conflict", {**TURNED, "keys": ("a", "b")}),
+    ("staying", "can_stay", {**TURNED, "keys": ("a",)}),
+    ("staying", "patch_with", {**TREES, "keys": ()}),
+    ("cheapest", "least_cost", {**PRICED, **FOCUSED}),
+    ("cheapest", "best_staying", {**PRICED, **FOCUSED}),
+    ("cheapest", "cheapest_patch", {**PRICED, **FOCUSED}),
+    ("cheapest", "covers", {**PRICED, **FOCUSED}),
+    ("cheapest", "shows_cheapest", {**PRICED, "value": PROOF, **FOCUSED}),
+    ("choices", "best_count", {**PRICED, **FOCUSED}),
+    ("choices", "best_at", {**PRICED, "number": 0, **FOCUSED}),
+    ("choices", "some_best", {**PRICED, **FOCUSED}),
+    ("choices", "every_best", {**PRICED, **FOCUSED}),
 )
 
 EXPECTED = {
@@ -43,6 +73,15 @@ EXPECTED = {
     "moments": (TREE, ("root", (("a", ()), ("b", ()), ("c", ()))),
                 ("root", (("a", ()), ("b", ()), ("c", ()), ("d", ()))),
                 ("root", (("a", ()), ("b", ()), ("d", (("c", ()),)))), OTHER),
+    "heaviest_run": ("b", "c"), "shows_heaviest": True, "run_count": 1, "run_at": ("b", "c"), "some_run": ("b", "c"),
+    "every_run": ("b", "c"), "steady": ("a", "b", "c"), "steady_children": ("a", "b", "c"), "cross": True,
+    "conflict": ("a", "b"), "can_stay": True, "least_cost": 5, "best_staying": ("a", "c"),
+    "cheapest_patch": (("move", "b", "r", "a"),), "shows_cheapest": True, "best_count": 1, "best_at": ("a", "c"),
+    "some_best": ("a", "c"), "every_best": ("a", "c"), "covers": (("r", ((1, ("c",)),)),),
+    "patch_with": (("create", "d", "root", None), ("move", "c", "d", None), ("move", "b", "root", "d"),
+                   ("remove", "a")),
+    # Any cover fits the document; this is the one that the package returns.
+    "cover_of": ((1, ("a", "b")), (4, ("b",)), (1, ("c",))),
 }
 
 # The parameters that may be any value.
@@ -50,7 +89,15 @@ ANY_VALUE = (
     ("is_key", "value"), ("is_tree", "value"), ("parent_of", "key"), ("children_of", "key"), ("subtree", "key"),
     ("path_of", "key"), ("is_inside", "key"), ("is_inside", "other"), ("are_operations", "value"),
     ("run", "operations"), ("moments", "operations"), ("are_costs", "value"), ("is_patch", "value"),
+    ("shows_heaviest", "run"), ("shows_heaviest", "value"), ("run_at", "number"), ("steady_children", "parent"),
+    ("cross", "one"), ("cross", "other"), ("conflict", "keys"), ("can_stay", "keys"), ("patch_with", "keys"),
+    ("least_cost", "focused"), ("best_staying", "focused"), ("cheapest_patch", "focused"), ("covers", "focused"),
+    ("shows_cheapest", "focused"), ("shows_cheapest", "value"), ("best_count", "focused"), ("best_at", "focused"),
+    ("best_at", "number"), ("some_best", "focused"), ("every_best", "focused"),
 )
+
+# What a value of the wrong kind leads to.
+REFUSALS = (False, (), "NoElement", "BadOperations", "NotKept", "NoNumber")
 
 
 def function_of(module, name):
@@ -69,10 +116,21 @@ class Conventions(unittest.TestCase):
     def test_by_position_and_by_name(self):
         for module, name, arguments in CALLS:
             function = function_of(module, name)
-            self.assertEqual(function(*arguments.values()), EXPECTED[name], name)
+            named = {key: value for key, value in arguments.items() if key == "focused"}
+            placed = [value for key, value in arguments.items() if key != "focused"]
+            self.assertEqual(function(*placed, **named), EXPECTED[name], name)
             self.assertEqual(function(**arguments), EXPECTED[name], name)
             backwards = dict(reversed(list(arguments.items())))
             self.assertEqual(function(**backwards), EXPECTED[name], name)
+
+    def test_parameters(self):
+        for module, name, arguments in CALLS:
+            parameters = inspect.signature(function_of(module, name)).parameters
+            self.assertEqual(list(parameters), list(arguments), name)
+            for key, parameter in parameters.items():
+                by_name = key == "focused"
+                self.assertIs(parameter.kind == parameter.KEYWORD_ONLY, by_name, name)
+                self.assertEqual(parameter.default, () if by_name else parameter.empty, name)
 
     def test_plain_kinds_of_values(self):
         for module, name, arguments in CALLS:
@@ -107,7 +165,7 @@ class Conventions(unittest.TestCase):
             right = arguments[parameter]
             wrong = list(right) if isinstance(right, tuple) else [right]
             answer = outcome(function, {**arguments, parameter: wrong})
-            self.assertIn(answer if answer is False else answer[0], (False, "NoElement", "BadOperations"), name)
+            self.assertIn(answer if answer in (False, ()) else answer[0], REFUSALS, name)
 
     def test_defined_in_the_module_of_the_interface(self):
         for module, name, _ in CALLS:
