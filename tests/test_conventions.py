@@ -11,6 +11,8 @@ from keyedmoves.errors import KeyedError
 TREE = ("root", (("a", (("b", ()),)), ("c", ())))
 OTHER = ("root", (("b", ()), ("d", (("c", ()),))))
 STEPS = (("move", "b", "root", "c"), ("create", "d", "root", None), ("move", "c", "d", None), ("remove", "a"))
+LAST = ("root", (("d", (("b", ()), ("c", ()))),))
+LAST_STEPS = (("move", "b", "d", "c"),)
 
 SEQUENCES = {"first": ("a", "b", "c"), "second": ("b", "a", "c"), "costs": (("b", 5),)}
 TREES = {"old": TREE, "new": OTHER}
@@ -63,6 +65,13 @@ CALLS = (
     ("choices", "best_at", {**PRICED, "number": 0, **FOCUSED}),
     ("choices", "some_best", {**PRICED, **FOCUSED}),
     ("choices", "every_best", {**PRICED, **FOCUSED}),
+    ("returning", "way_back", {**TREES, "operations": STEPS}),
+    ("returning", "joined", {"old": TREE, "middle": OTHER, "new": LAST, "first": STEPS, "second": LAST_STEPS}),
+    ("returning", "batched", {"operations": STEPS, "costs": (("b", 5),), "most": 5}),
+    ("texts", "show_tree", {"tree": TREE}),
+    ("texts", "read_tree", {"text": "root\n  a\n    b\n  c"}),
+    ("texts", "show_operations", {"operations": STEPS}),
+    ("texts", "read_operations", {"text": "move b root c\nremove a"}),
 )
 
 EXPECTED = {
@@ -82,6 +91,11 @@ EXPECTED = {
                    ("remove", "a")),
     # Any cover fits the document; this is the one that the package returns.
     "cover_of": ((1, ("a", "b")), (4, ("b",)), (1, ("c",))),
+    "way_back": (("move", "c", "root", None), ("create", "a", "root", "c"), ("move", "b", "a", None), ("remove", "d")),
+    "joined": (("create", "d", "root", None), ("move", "c", "d", None), ("move", "b", "d", "c"), ("remove", "a")),
+    "batched": (STEPS[:2], STEPS[2:]), "show_tree": "root\n  a\n    b\n  c", "read_tree": TREE,
+    "show_operations": "move b root c\ncreate d root -\nmove c d -\nremove a",
+    "read_operations": (("move", "b", "root", "c"), ("remove", "a")),
 }
 
 # The parameters that may be any value.
@@ -93,11 +107,12 @@ ANY_VALUE = (
     ("cross", "one"), ("cross", "other"), ("conflict", "keys"), ("can_stay", "keys"), ("patch_with", "keys"),
     ("least_cost", "focused"), ("best_staying", "focused"), ("cheapest_patch", "focused"), ("covers", "focused"),
     ("shows_cheapest", "focused"), ("shows_cheapest", "value"), ("best_count", "focused"), ("best_at", "focused"),
-    ("best_at", "number"), ("some_best", "focused"), ("every_best", "focused"),
+    ("best_at", "number"), ("some_best", "focused"), ("every_best", "focused"), ("way_back", "operations"),
+    ("joined", "first"), ("joined", "second"), ("read_tree", "text"), ("read_operations", "text"),
 )
 
 # What a value of the wrong kind leads to.
-REFUSALS = (False, (), "NoElement", "BadOperations", "NotKept", "NoNumber")
+REFUSALS = (False, (), "NoElement", "BadOperations", "NotKept", "NoNumber", "NotPatch", "BadText")
 
 
 def function_of(module, name):

@@ -42,7 +42,7 @@ def answer(code, expected, names):
 class Examples(unittest.TestCase):
     def test_every_example(self):
         blocks = read_blocks()
-        self.assertEqual(len(blocks), 21)
+        self.assertEqual(len(blocks), 28)
         for block in blocks:
             names = {}
             for code, expected in block:

@@ -116,8 +116,9 @@ class Language(unittest.TestCase):
             variables = {node.id for node in ast.walk(tree)
                          if isinstance(node, ast.Name) and not isinstance(node.ctx, ast.Load)}
             variables |= {node.arg for node in ast.walk(tree) if isinstance(node, ast.arg)}
-            imported = {alias.name for node in tree.body if isinstance(node, ast.ImportFrom) for alias in node.names}
-            self.assertEqual(variables & (imported | set(dir(builtins))), set(), name)
+            taken = {alias.name for node in tree.body if isinstance(node, ast.ImportFrom) for alias in node.names}
+            taken |= {node.name for node in tree.body if isinstance(node, ast.ClassDef)}
+            self.assertEqual(variables & (taken | set(dir(builtins))), set(), name)
 
     def test_builtins_and_their_methods(self):
         own = {bound for tree in self.trees.values() for bound in bound_names(tree)}
@@ -128,6 +129,30 @@ class Language(unittest.TestCase):
                 self.assertIn(node.attr, METHODS | DOUBLE_UNDERSCORES, where)
             else:
                 self.assertIn(node.attr, own, where)
+
+    def test_methods_and_attributes(self):
+        methods = {item.name for _, node in self.each_node(ast.ClassDef) for item in node.body
+                   if isinstance(item, ast.FunctionDef)}
+        attributes = {node.attr for _, node in self.each_node(ast.Attribute) if not isinstance(node.ctx, ast.Load)}
+        self.assertEqual(methods & attributes, set())
+        self.assertEqual(attributes & BUILTIN_METHODS, {"index"})
+        self.assertEqual(methods & BUILTIN_METHODS - DOUBLE_UNDERSCORES, {"copy", "update"})
+
+    def test_no_sort_beside_a_class_that_compares(self):
+        for where, node in self.each_node(ast.Attribute):
+            self.assertNotEqual(node.attr, "sort", where)
+
+    def test_sets_are_not_iterated(self):
+        for where, node in self.each_node(ast.For, ast.comprehension):
+            self.assertNotIsInstance(node.iter, (ast.Set, ast.SetComp), where)
+            self.assertFalse(ast.unparse(node.iter).startswith("set("), where)
+
+    def test_only_own_errors_are_caught_and_raised(self):
+        own = {node.name for node in self.trees["errors.py"].body if isinstance(node, ast.ClassDef)}
+        for where, node in self.each_node(ast.ExceptHandler):
+            self.assertIn(ast.unparse(node.type), own, where)
+        for where, node in self.each_node(ast.Raise):
+            self.assertIn(node.exc.func.id, own, where)
 
     def test_statements_and_expressions(self):
         for where, node in self.each_node(ast.Global, ast.AsyncFunctionDef, ast.Div, ast.AnnAssign):
